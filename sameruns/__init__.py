@@ -1,0 +1,1 @@
+"""Sameruns: a compiler with certificates, a linker and a machine."""

@@ -1,0 +1,1 @@
+"""Errors, words, operations and runs."""

@@ -1,0 +1,1 @@
+"""The language: tokens, trees, units, reading, writing and checking."""

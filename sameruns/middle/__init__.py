@@ -1,0 +1,1 @@
+"""Middle code and lowering."""

@@ -1,0 +1,1 @@
+"""The run of the source."""
