@@ -133,6 +133,13 @@ class FlowTest(unittest.TestCase):
                 self.assertEqual(refusal((deed, BACK)), None if good else (0, 0), deed)
         self.assertEqual(refusal((("moves", (4,), (0,)), BACK)), (0, 0))
 
+    def test_entries_of_another_kind(self):
+        for deed in (("copy", "a", 1), ("copy", 1, None), ("word", 1, "5"), ("load", 1, (0,), 2), ("read", 1, 7),
+                     ("call", 1, 4, (), AT), ("call", 1, "f", 2, AT), ("moves", 1, 2), ("tell", 1, 5),
+                     ("inside", 1, "2", AT), ("depth", None, AT), ("op", 1, 2, 2, 2)):
+            self.assertEqual(refusal((deed, BACK)), (0, 0), deed)
+        self.assertEqual(refusal((("jump", "0"),)), (0, 0))
+
     def test_moves(self):
         for targets_of, sources, good in (
             ((0, 1), (1, 0), True), ((0,), (1, 0), False), ((0, 1), (1,), False), ((1, 1), (2, 3), False),
@@ -215,6 +222,14 @@ class MiddleTest(unittest.TestCase):
         self.assertEqual(Middle.joined([]).parts(), ((), (), ()))
         self.assertEqual(Middle.joined([third]).parts(), third.parts())
         self.assertIs(joined.flow("f"), self.one)
+
+    def test_a_list_that_is_passed_stays(self):
+        middles = [Middle((("a", 3),), (), ()), Middle((), (), (self.one,))]
+        before = list(middles)
+        joined = Middle.joined(middles)
+        self.assertEqual(middles, before)
+        middles.clear()
+        self.assertEqual(joined.parts(), ((("a", 3),), (), (self.one.parts(),)))
 
 
 if __name__ == "__main__":

@@ -283,11 +283,25 @@ class LimitsTest(unittest.TestCase):
         endless = [read_unit("word main() { while (1) { } }")]
         found = run_source(endless)
         self.assertEqual((found.end, found.steps, found.rounds), (None, 1 + 1000 * 3 + 2, 1000))
+        source = Source(endless)
+        source.go()
+        self.assertEqual(self.state(source), ([], None, 1 + 1000 * 3 + 2, 1000))
         found = run_source(endless, rounds=10000, steps=1000000)
         self.assertEqual((found.end, found.steps, found.rounds), (None, 1 + 10000 * 3 + 2, 10000))
         long = [read_unit("word main() { while (1) { " + "tell 1; " * 40 + "} }")]
         found = run_source(long)
         self.assertEqual((found.end, found.steps), (None, 100000))
+        source = Source(long)
+        source.go()
+        self.assertEqual((source.run().end, source.run().steps), (None, 100000))
+
+    def test_the_usual_depth(self):
+        units = [read_unit("word f() { f(); } word main() { f(); }")]
+        end = ("trap", "depth", (("main", 0),) + (("f", 0),) * 31)
+        self.assertEqual(run_source(units).end, end)
+        source = Source(units)
+        source.go()
+        self.assertEqual(source.run().end, end)
 
     def test_every_limit_of_steps(self):
         for steps in range(80):

@@ -54,7 +54,8 @@ def kind_of(piece):
         return "name"
     if is_number(piece):
         return "number"
-    if piece in DOUBLE_SIGNS or (len(piece) == 1 and piece in SINGLE_SIGNS):
+    # Every sign of two characters begins with one that is a sign by itself.
+    if piece[0] in SINGLE_SIGNS:
         return "sign"
     return "bad"
 

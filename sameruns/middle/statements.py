@@ -72,16 +72,15 @@ def lower_choice(builder, statement):
     first = builder.begin_block()
     lower_block(builder, yes)
     leaving = [builder.leave()]
-    second = None
+    # The next block that is begun is the one of the else, or the one behind if there is none.
+    second = len(builder.blocks)
     if no:
-        second = builder.begin_block()
+        builder.begin_block()
         lower_block(builder, no)
         leaving.append(builder.leave())
     leaving = [number for number in leaving if number is not None]
     if leaving or not no:
-        behind = builder.begin_block()
-        end_by_jump(builder, leaving, behind)
-        second = second if no else behind
+        end_by_jump(builder, leaving, builder.begin_block())
     builder.finish(fork, ("fork", value, first, second))
 
 
