@@ -26,6 +26,15 @@ INTERFACE = {
     "middle/deeds.py": (["reads", "assigns", "targets", "is_plain"], {}),
     "middle/flows.py": ([], {"Flow": ["parts"], "Middle": ["parts", "flow", "joined"]}),
     "middle/lowering.py": (["lower"], {}),
+    "middle/wanted.py": (["wanted", "wanted_behind"], {}),
+    "middle/walking.py": (["run_middle"], {
+        "Walker": ["go", "run", "place", "variables", "local_items", "opened", "global_word", "global_items"]}),
+    "papers/facts.py": (["implied", "after_deed", "known_word"], {}),
+    "papers/skips.py": (["padded", "swept"], {}),
+    "papers/judge.py": (["judge"], {"Paper": ["parts"]}),
+    "papers/known.py": (["known"], {}),
+    "papers/common.py": (["common"], {}),
+    "papers/dead.py": (["dead"], {}),
 }
 BUILTINS = """len range enumerate zip min max sum abs sorted reversed int str bool list tuple dict set isinstance any all
 ValueError""".split()

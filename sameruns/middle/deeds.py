@@ -24,7 +24,10 @@ SHAPES = {
     "back": ("from",),
 }
 
+# The plain deeds that assign one variable, all plain deeds, the checks, and the ends.
+SINGLE = ("word", "copy", "op", "with", "read", "load")
 PLAIN = ("word", "copy", "op", "with", "read", "load", "moves", "skip")
+CHECKS = ("nonzero", "inside", "depth")
 ENDS = ("jump", "fork", "back")
 
 

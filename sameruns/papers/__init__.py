@@ -1,0 +1,1 @@
+"""Papers, the judge, and the passes."""
