@@ -41,6 +41,10 @@ class FlowDrawer:
         """Return a variable."""
         return self.chance.randrange(self.count)
 
+    def target(self):
+        """Return a variable that is assigned."""
+        return self.variable()
+
     def at(self):
         """Return a chain."""
         return tuple([(self.name, self.chance.randint(0, 9)) for _ in range(self.chance.choice((1, 1, 1, 2, 3)))])
@@ -58,7 +62,7 @@ class FlowDrawer:
         if self.count == 0:
             return self.chance.choice((("skip",), ("moves", (), ()), ("depth", self.chance.randint(1, 3), self.at())))
         kind = self.chance.choice(PLAIN if self.chance.random() < 0.7 else OTHER)
-        d, a, b = self.variable(), self.variable(), self.variable()
+        d, a, b = self.target(), self.variable(), self.variable()
         number = self.chance.choice(NUMBERS)
         if kind == "call" and not self.calls:
             kind = "tell"
@@ -66,7 +70,7 @@ class FlowDrawer:
             name, many = self.chance.choice(self.calls)
             return ("call", d, name, tuple([self.variable() for _ in range(many)]), self.at())
         if kind == "moves":
-            some = self.chance.sample(range(self.count), self.chance.randint(0, min(4, self.count)))
+            some = sorted({self.target() for _ in range(self.chance.randint(0, 4))}, key=lambda _: self.chance.random())
             return ("moves", tuple(some), tuple([self.variable() for _ in some]))
         return {
             "word": ("word", d, number), "copy": ("copy", d, a), "op": ("op", d, self.operation(), a, b),
@@ -90,18 +94,79 @@ class FlowDrawer:
         return ("jump", self.chance.randrange(self.many))
 
 
+class LoopDrawer(FlowDrawer):
+    """Draws one flow that is made of loops and forks, as lowered ones are."""
+
+    def flow(self):
+        """Return the flow."""
+        self.count = max(self.count, 4)
+        self.blocks = [[]]
+        self.body(0)
+        self.blocks[-1].append(("back", self.variable()))
+        return Flow(self.name, self.params, self.count, self.arrays, tuple([tuple(block) for block in self.blocks]))
+
+    def target(self):
+        """Return a variable that is assigned, seldom one of the last ones."""
+        return self.chance.randrange(self.count if self.chance.random() < 0.1 else self.count // 2)
+
+    def body(self, deep):
+        """Go on with some deeds, loops and forks."""
+        for _ in range(self.chance.randint(1, 3)):
+            self.blocks[-1].extend([self.deed() for _ in range(self.chance.randint(0, self.deeds))])
+            if deep < 3 and self.chance.random() < 0.6:
+                self.loop(deep)
+            elif deep < 3:
+                self.choice(deep)
+
+    def loop(self, deep):
+        """Go on with a loop."""
+        head = len(self.blocks)
+        self.blocks[-1].append(("jump", head))
+        self.blocks.append([self.deed() for _ in range(self.chance.randint(0, 2))])
+        self.blocks.append([])
+        self.body(deep + 1)
+        self.blocks[-1].append(("jump", head))
+        self.blocks[head].append(("fork", self.variable(), head + 1, len(self.blocks)))
+        self.blocks.append([])
+
+    def choice(self, deep):
+        """Go on with a fork whose ways meet again."""
+        first = len(self.blocks)
+        self.blocks.append([])
+        self.body(deep + 1)
+        last, behind = len(self.blocks) - 1, len(self.blocks)
+        self.blocks[first - 1].append(("fork", self.variable(), first, behind))
+        self.blocks[last].append(("jump", behind))
+        self.blocks.append([])
+
+
+def drawn_looping_flow(seed, **sizes):
+    """Return a drawn flow with loops."""
+    chance = random.Random(seed)
+    return LoopDrawer(chance, "f", chance.randint(0, 3), [("f", 1), ("q", 2)], **sizes).flow()
+
+
 def drawn_flow(seed, **sizes):
     """Return a drawn flow."""
     chance = random.Random(seed)
     return FlowDrawer(chance, "f", chance.randint(0, 3), [("f", 1), ("q", 2)], **sizes).flow()
 
 
-def drawn_middle(seed, **sizes):
+def closed(chance, flow):
+    """Return the flow without local arrays, and with a word for each variable that is no parameter."""
+    begin = [("word", v, chance.choice(NUMBERS)) for v in range(flow.count) if v not in flow.params]
+    blocks = [[deed for deed in block if not (deed[0] == "load" and isinstance(deed[2], int))] for block in flow.blocks]
+    blocks = [[deed for deed in block if not (deed[0] == "store" and isinstance(deed[1], int))] for block in blocks]
+    return Flow(flow.name, flow.params, flow.count, (), tuple([tuple(begin + blocks[0])] + blocks[1:]))
+
+
+def drawn_middle(seed, drawer=FlowDrawer, **sizes):
     """Return a drawn middle that can be run."""
     chance = random.Random(seed)
-    counts = [("main", 0), ("f", 1), ("q", 2), ("leaf", chance.randint(0, 3))]
+    counts = [("main", 0), ("f", 1), ("q", 2), ("leaf", chance.randint(0, 3)), ("tiny", chance.randint(0, 2))]
     flows = []
-    for name, many in counts:
-        flows.append(FlowDrawer(chance, name, many, [] if name == "leaf" else counts, **sizes).flow())
+    for name, many in counts[:4]:
+        flows.append(drawer(chance, name, many, [] if name == "leaf" else counts, **sizes).flow())
+    flows.append(closed(chance, FlowDrawer(chance, "tiny", counts[4][1], [], blocks=3, deeds=3, most=4).flow()))
     chance.shuffle(flows)
     return Middle(WORDS, ARRAYS, tuple(flows))

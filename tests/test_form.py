@@ -35,6 +35,13 @@ INTERFACE = {
     "papers/known.py": (["known"], {}),
     "papers/common.py": (["common"], {}),
     "papers/dead.py": (["dead"], {}),
+    "papers/fixed.py": (["fixed", "loops"], {}),
+    "papers/laid.py": (["can_lay", "laid_at", "laid"], {}),
+    "papers/improving.py": (["PASSES", "improved"], {}),
+    "homes/cells.py": (["REGISTERS", "LOST"], {}),
+    "homes/fitting.py": (["fits"], {}),
+    "homes/choosing.py": (["choose"], {}),
+    "homes/renaming.py": (["renamed"], {}),
 }
 BUILTINS = """len range enumerate zip min max sum abs sorted reversed int str bool list tuple dict set isinstance any all
 ValueError""".split()

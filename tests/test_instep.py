@@ -7,13 +7,15 @@ from sameruns.basics.errors import BadFlow
 from sameruns.middle.flows import Flow
 from sameruns.papers.common import common
 from sameruns.papers.dead import dead
+from sameruns.papers.fixed import fixed
+from sameruns.papers.fixed import fixed
 from sameruns.papers.judge import Paper, judge
 from sameruns.papers.known import known
 from tests.flowdrawing import FlowDrawer, drawn_middle
 from tests.secondjudge import accepts
 from tests.stepping import check_in_step
 
-PASSES = (known, common, dead)
+PASSES = (known, common, dead, fixed)
 
 
 def exchanged(row, at, entry):
@@ -107,7 +109,7 @@ class InStepTest(unittest.TestCase):
             for action in PASSES:
                 pairs = {flow.name: action(flow) for flow in middle.flows}
                 total += check_in_step(self, middle, pairs, depth=random.Random(seed).choice((1, 3, 32)))
-        self.assertGreater(total, 10000)
+        self.assertGreater(total, 20000)
 
     def test_what_the_judge_accepts_after_a_change(self):
         accepted, refused = 0, 0

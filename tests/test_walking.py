@@ -223,6 +223,22 @@ class DrivenTest(unittest.TestCase):
         self.assertEqual(walker.run().told, ((1, AT), (2, AT)))
         self.assertIs(type(first.told), tuple)
 
+    def test_the_usual_limits_and_depth(self):
+        walker = Walker(self.turning)
+        walker.go()
+        self.assertEqual((walker.run().steps, walker.run().rounds), (8007, 1000))
+        walker = Walker(middle((("skip",),) * 99 + (("jump", 0),)))
+        walker.go()
+        self.assertEqual((walker.run().steps, walker.run().rounds), (100000, 1000))
+        walker = Walker(middle((("skip",),) * 999 + (("jump", 0),)))
+        walker.go()
+        self.assertEqual((walker.run().steps, walker.run().rounds), (100000, 100))
+        for many, end in ((31, ("end", 0)), (32, ("trap", "depth", AT))):
+            walker = Walker(middle((("depth", many, AT), ("back", 0))))
+            walker.go()
+            self.assertEqual(walker.run().end, end)
+            self.assertEqual(run_middle(middle((("depth", many, AT), ("back", 0)))).end, end)
+
     def test_go_returns_none_and_behind_the_end_nothing_happens(self):
         made = middle((("tell", 0, AT), ("back", 0)))
         walker = Walker(made)

@@ -7,7 +7,7 @@ from sameruns.papers.matching import is_same_but_reads, matches
 
 def carry(walk, x, y):
     """Lead a walk over the deeds x and y; return True if some rule allows it."""
-    if is_end(x) or is_end(y):
+    if is_end(y):
         return carries_end(walk, x, y)
     if is_plain(x) and is_plain(y):
         if not is_harmless(walk, x, y):
@@ -54,10 +54,10 @@ def is_needless(walk, x):
 
 
 def carries_end(walk, x, y):
-    """Return True if some rule allows the ends x and y."""
+    """Return True if some rule allows the end y behind x."""
     if x[0] == "fork" and y[0] == "jump":
         return y[1] in sure_ways(walk, x)
-    return is_end(x) and is_end(y) and is_same_deed(walk, x, y)
+    return is_same_deed(walk, x, y)
 
 
 def sure_ways(walk, fork):

@@ -1,6 +1,5 @@
 """The pass that does nothing twice."""
 
-from sameruns.middle.deeds import reads
 from sameruns.middle.flows import Flow
 from sameruns.papers.drafts import drafted
 from sameruns.papers.judge import Paper
@@ -14,7 +13,7 @@ def common(flow):
 
 def common_deed(walk, deed):
     """Return a copy from a variable that has the word of this deed already, or the deed if there is none."""
-    if deed[0] in ("op", "with", "read", "load") and walk.all_agree(reads(deed)):
+    if deed[0] in ("op", "with", "read", "load"):
         # All facts that do the same have this in common: the word that they read, or their first variable.
         key = ("read", deed[2]) if deed[0] == "read" else deed[3]
         for fact in walk.book.about(key):

@@ -29,7 +29,7 @@ def needed_before(deed, behind):
 
 def trimmed(deed, behind):
     """Return the deed that does of a plain deed only what is needed behind it."""
-    if not is_plain(deed) or deed[0] == "skip":
+    if not is_plain(deed):
         return deed
     if not mask_of(assigns(deed)) & behind:
         return ("skip",)

@@ -1,6 +1,5 @@
 """The pass that uses what is known."""
 
-from sameruns.middle.deeds import CHECKS
 from sameruns.middle.flows import Flow
 from sameruns.papers.carrying import is_needless, sure_ways
 from sameruns.papers.drafts import drafted
@@ -19,7 +18,7 @@ def known_deed(walk, deed):
     kind = deed[0]
     if kind in ("copy", "op", "with"):
         return known_value(walk, deed)
-    if kind in CHECKS and is_needless(walk, deed):
+    if is_needless(walk, deed):
         return ("skip",)
     if kind == "fork":
         found = sure_ways(walk, deed)

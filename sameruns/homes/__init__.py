@@ -1,0 +1,1 @@
+"""Registers and slots for the variables of flows."""
