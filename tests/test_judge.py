@@ -244,6 +244,11 @@ class PlainTest(Judged):
         self.same((("op", 5, "sub", 1, 2),), (("with", 5, "sub", 3, 9),), True, begin=(*known, ("copy", 3, 1)))
         self.same((("op", 5, "sub", 1, 2),), (("with", 5, "sub", 1, 9),), False, begin=known, agreeing=(0, 2, 3, 4, 5))
         self.same((("with", 5, "sub", 1, 9),), (("op", 5, "sub", 1, 2),), False, begin=known)
+        # The number of a with is no variable, and an array may be called like an operation.
+        self.same((("with", 5, "sub", 1, 2),), (("with", 5, "sub", 1, 9),), False, begin=known)
+        self.same((("load", 5, "sub", 1),), (("with", 5, "sub", 1, 9),), False, begin=known)
+        self.same((("read", 5, "sub"),), (("with", 5, "sub", 1, 9),), False, begin=known)
+        self.same((("read", 5, "sub"),), (("copy", 5, 1),), False, begin=known)
         before = flow((("word", 2, 8), ("op", 5, "sub", 1, 2), ("back", 5)))
         after = flow((("word", 2, 9), ("with", 5, "sub", 1, 9), ("back", 5)))
         self.no(before, after, (EVERY, ()))
