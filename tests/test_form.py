@@ -42,7 +42,17 @@ INTERFACE = {
     "homes/fitting.py": (["fits"], {}),
     "homes/choosing.py": (["choose"], {}),
     "homes/renaming.py": (["renamed"], {}),
+    "homes/moving.py": (["in_turn"], {}),
+    "rows/coding.py": (["encode", "decode"], {}),
+    "rows/rowtext.py": (["row_text", "read_row"], {}),
+    "rows/layout.py": ([], {"Layout": ["offset", "array_offset"]}),
+    "rows/deedrows.py": (["deed_lines"], {}),
+    "rows/emitting.py": (["emitted"], {"Piece": []}),
+    "objects/objects.py": ([], {"Object": ["parts", "size", "__add__", "gathered"]}),
+    "objects/objecttext.py": (["listing"], {}),
 }
+ERRORS = """BadText BadName Twice BadLength BadNumber Stray Unknown Unlike Missing NoMain BadFlow BadSpot BadSite BadRow BadLine BadDepth
+BadBase BadPass TooMany BadFree NoUnit""".split()
 BUILTINS = """len range enumerate zip min max sum abs sorted reversed int str bool list tuple dict set isinstance any all
 ValueError""".split()
 BARRED = ("register", "mro", "elements", "open", "input", "law", "type", "typing", "eval", "exec", "global", "async",
@@ -65,6 +75,39 @@ class FormTest(unittest.TestCase):
             for class_name, methods in classes.items():
                 own = [row.name for row in found[class_name].body if isinstance(row, ast.FunctionDef)]
                 self.assertLessEqual({"__init__", *methods}, set(own), class_name)
+
+    def test_the_errors_are_defined_in_their_file(self):
+        body = ast.parse((FOLDER / "basics/errors.py").read_text()).body
+        self.assertEqual([row.name for row in body if isinstance(row, ast.ClassDef)], ["RunsError", *ERRORS])
+
+    def test_methods_are_called_where_they_stand(self):
+        methods, properties = set(), set()
+        for _, tree in trees():
+            for node in ast.walk(tree):
+                for row in node.body if isinstance(node, ast.ClassDef) else []:
+                    if isinstance(row, ast.FunctionDef):
+                        is_property = [mark.id for mark in row.decorator_list] == ["property"]
+                        (properties if is_property else methods).add(row.name)
+        self.assertEqual(properties, {"size"})
+        for path, tree in trees():
+            called = {id(node.func) for node in ast.walk(tree) if isinstance(node, ast.Call)}
+            for node in ast.walk(tree):
+                if isinstance(node, ast.Attribute):
+                    self.assertTrue(node.attr not in methods or id(node) in called, (path, node.attr))
+                    self.assertFalse(node.attr in properties and isinstance(node.ctx, ast.Store), (path, node.attr))
+
+    def test_stars_stand_over_lists_and_names(self):
+        """No star over a call of zip and its kin, and behind a star in a call only names, their attributes and literals."""
+        for path, tree in trees():
+            for node in ast.walk(tree):
+                if isinstance(node, ast.Starred):
+                    lazy = isinstance(node.value, ast.Call) and getattr(node.value.func, "id", "") in ("zip", "enumerate", "reversed", "range", "map")
+                    self.assertFalse(lazy, (path, node.lineno))
+                if isinstance(node, ast.Call) and any(isinstance(one, ast.Starred) for one in node.args):
+                    first = [isinstance(one, ast.Starred) for one in node.args].index(True)
+                    for one in [*node.args[first + 1:], *[word.value for word in node.keywords]]:
+                        is_plain = isinstance(one, (ast.Name, ast.Constant)) or isinstance(one, ast.Attribute) and isinstance(one.value, ast.Name)
+                        self.assertTrue(is_plain, (path, node.lineno))
 
     def test_files(self):
         self.assertLessEqual(len(FILES), 100)

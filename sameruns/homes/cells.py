@@ -9,9 +9,14 @@ FIRST_SLOT = 32
 LAST_SLOT = 351
 
 
+def is_free(free):
+    """Return True if this many registers may be free."""
+    return 0 <= free <= len(REGISTERS)
+
+
 def free_registers(free):
     """Return the tuple of the free registers; refuse a number that is out of its bounds."""
-    if not 0 <= free <= len(REGISTERS):
+    if not is_free(free):
         raise BadFree(free)
     return REGISTERS[:free]
 

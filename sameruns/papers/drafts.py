@@ -10,7 +10,7 @@ class Draft:
     def __init__(self, before, blocks):
         self.before = before
         self.given = list(blocks)
-        self.made = list(blocks)
+        self.written = list(blocks)
         self.entries = [None] * len(self.given)
         self.entries[0] = (tuple(range(before.count)), ())
         # Whether the block must be walked again, because its entry has changed.
@@ -33,7 +33,7 @@ class Draft:
             y = action(walk, given)
             deeds.append(y)
             carry(walk, x, y)
-        self.made[number] = tuple(deeds)
+        self.written[number] = tuple(deeds)
         for target, fact in ways(deeds[-1]):
             self.narrow(target, walk, fact)
 
@@ -61,7 +61,7 @@ def drafted(before, blocks, action):
     """
     draft = Draft(before, blocks)
     draft.settle(action)
-    return (tuple(draft.made), tuple(draft.entries))
+    return (tuple(draft.written), tuple(draft.entries))
 
 
 def as_it_is(walk, deed):

@@ -19,7 +19,7 @@ def improved(middle, passes):
     check_passes(passes)
     flows = middle.flows
     for name in passes:
-        flows = tuple([passed(name, flow, flows) for flow in flows])
+        flows, _ = staged(name, flows)
     return Middle(middle.words, middle.arrays, flows)
 
 
@@ -32,12 +32,25 @@ def check_passes(passes):
         raise TooMany(MOST_PASSES)
 
 
-def passed(name, flow, flows):
-    """Return what takes the place of a flow by a pass; the flows are those before the pass."""
+def staged(name, flows):
+    """Return the tuple (flows, stage): the flows after a pass, and the stage of a certificate that tells of it."""
     if name == "laid":
-        return laid(flow, flows)[0]
+        # Each one is laid with the flows as they are before the pass.
+        found = [laid(flow, flows) for flow in flows]
+        return (tuple([flow for flow, _ in found]), ("laid", tuple([sites for _, sites in found])))
+    items = tuple([judged_item(name, flow) for flow in flows])
+    return (with_items(flows, items), ("judged", items))
+
+
+def judged_item(name, flow):
+    """Return the pair of the after flow and the paper of a pass, or None if the judge does not accept it."""
     after, paper = judged_pass(name, flow)
-    return swept(after) if judge(flow, after, paper) else flow
+    return (after, paper) if judge(flow, after, paper) else None
+
+
+def with_items(flows, items):
+    """Return the tuple of the flows after a stage with these items, which the judge accepts."""
+    return tuple([flow if item is None else swept(item[0]) for flow, item in zip(flows, items)])
 
 
 def judged_pass(name, flow):

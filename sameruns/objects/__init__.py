@@ -1,0 +1,1 @@
+"""Objects, their listings, and linking."""

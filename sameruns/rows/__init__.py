@@ -1,0 +1,1 @@
+"""Instruction words, and the code of functions."""
