@@ -2,10 +2,12 @@
 
 import unittest
 
+from sameruns.lang.unitreading import read_unit
 from sameruns.objects.objects import Object
 from sameruns.objects.objecttext import listing
 from sameruns.rows.rowtext import row_text
 from sameruns.rows.coding import decode
+from sameruns.whole.compiling import compiled
 from tests.objectdrawing import drawn_object
 from tests.secondrows import second_encode
 
@@ -71,6 +73,14 @@ class ListingTest(unittest.TestCase):
     def test_drawn_objects(self):
         for seed in range(300):
             self.check(drawn_object(seed))
+
+    def test_compiled_units(self):
+        unit = read_unit("use word t[9]; word g; word main() { while (g < t[1]) { g = g + t[g] / 3; tell g; } main(); }")
+        for free in (0, 5, 20):
+            found = self.check(compiled(unit, free=free))
+            self.assertEqual(found[:3], ["need array t 9", "word g 0", "function main 0 " + found[2].split()[-1]])
+            for line in ("  jal x1, call main", "mark call main:3", "mark depth main:3", "mark tell main:2", "mark index main:1"):
+                self.assertIn(line, found)
 
 
 if __name__ == "__main__":

@@ -1,0 +1,1 @@
+"""Whole units: compiling, certificates, and the shop."""
