@@ -373,6 +373,37 @@ class OtherCertificatesTest(CheckerTest):
         # All sites at once, also those that come behind the bounds.
         self.answer(False, unit, made, Certificate(8, (("laid", ((), tuple(range(60)))),), homes))
 
+    def laid_main(self, text, many):
+        """Lay the first calls of main; return whether that is accepted, and the laid flow."""
+        unit = read_unit(text)
+        flows = lower(unit).flows
+        sites = ((), tuple(range(many)))
+        flow = laid_at(flows[1], flows, sites[1])
+        homes = (choose(flows[0], 8), choose(flow, 8))
+        certificate = Certificate(8, (("laid", sites),), homes)
+        return accepts(unit, gathered(unit, (flows[0], flow), homes), certificate), flow
+
+    def test_exactly_at_the_bounds_of_laid_flows(self):
+        found = {}
+        for ifs in range(50, 54):
+            for whiles in (0, 1):
+                for more in range(3):
+                    body = "if (n) { } " * ifs + "while (n) { n = 0; } " * whiles
+                    answer, flow = self.laid_main(f"word f(word n) {{ {body} }} word main() {{ {'if (1) { } ' * more} f(1); f(2); f(3); }}", 3)
+                    self.assertEqual(answer, len(flow.blocks) <= 320)
+                    found[len(flow.blocks)] = answer
+        self.assertEqual([found[count] for count in (319, 320, 321, 322)], [True, True, False, False])
+        found = {}
+        for tells in (58, 59):
+            for more in range(8):
+                for ifs in (0, 1):
+                    body = f"{'tell 1; ' * more} {'if (1) { } ' * ifs} {'f(1); ' * 18}"
+                    answer, flow = self.laid_main(f"word f(word n) {{ {'tell n; ' * tells} }} word main() {{ {body} }}", 18)
+                    deeds = sum([len(block) for block in flow.blocks])
+                    self.assertEqual(answer, deeds <= 1200)
+                    found[deeds] = answer
+        self.assertEqual([found[count] for count in (1199, 1200, 1201, 1202)], [True, True, False, False])
+
     def test_the_bounds_of_blocks_and_variables(self):
         choices = "if (n) { } " * 60
         unit = read_unit(f"word f(word n) {{ {choices} }} word main() {{ f(1); f(2); f(3); f(4); }}")
@@ -394,21 +425,23 @@ class OtherCertificatesTest(CheckerTest):
             self.answer(fine, unit, gathered(unit, (flows[0], flow), homes), Certificate(8, (("laid", ((), tuple(range(many)))),), homes))
 
     def test_chains_of_more_than_8_places(self):
-        rows = ["word f0(word n) { return 1 / n; }", *[f"word f{k}(word n) {{ return f{k - 1}(n); }}" for k in range(1, 9)], "word main() { return f8(1); }"]
-        unit = read_unit(" ".join(rows))
-        flows, stages = lower(unit).flows, []
-        for stage in range(1, 10):
-            sites = tuple([(0,) if number == stage else () for number in range(10)])
-            stages.append(("laid", sites))
-            if stage < 8:
-                flows = tuple([laid_at(flow, flows, own) for flow, own in zip(flows, sites)])
-                self.runs(unit, self.own(unit, tuple(stages)))
-            else:
-                # The chain would have 9 places.
-                homes = tuple([choose(flow, 8) for flow in flows])
-                made = gathered(unit, flows, homes)
-                self.answer(False, unit, made, Certificate(8, tuple(stages), homes))
-                self.answer(True, unit, made, Certificate(8, tuple(stages[:7]), homes))
+        for given, taken in (("", ""), ("1", "word n"), ("1, 2, 3, 4, 5, 6", "word n, word a, word b, word c, word d, word e")):
+            unit = read_unit(" ".join([f"word f0({taken}) {{ tell 5; return 1 / 0; }}",
+                                       *[f"word f{k}({taken}) {{ return f{k - 1}({given}); }}" for k in range(1, 9)],
+                                       f"word main() {{ return f8({given}); }}"]))
+            flows, stages = lower(unit).flows, []
+            for stage in range(1, 10):
+                sites = tuple([(0,) if number == stage else () for number in range(10)])
+                stages.append(("laid", sites))
+                if stage < 8:
+                    flows = tuple([laid_at(flow, flows, own) for flow, own in zip(flows, sites)])
+                    self.runs(unit, self.own(unit, tuple(stages)))
+                else:
+                    # The chain would have 9 places.
+                    homes = tuple([choose(flow, 8) for flow in flows])
+                    made = gathered(unit, flows, homes)
+                    self.answer(False, unit, made, Certificate(8, tuple(stages), homes))
+                    self.answer(True, unit, made, Certificate(8, tuple(stages[:7]), homes))
 
     def test_laying_takes_the_flows_before_the_stage(self):
         unit = read_unit("word f(word n) { return n; } word k(word n) { return f(n); } word main() { return k(1); }")

@@ -118,6 +118,9 @@ class ErrorsTest(unittest.TestCase):
         for free in (-1, 21, -2 ** 40, 2 ** 40):
             self.refuse(BadFree, {"free": free}, unit, free=free)
             self.refuse(BadFree, {"free": free}, unit, *PASSES, free=free)
+        # Also where there is no function.
+        self.refuse(BadFree, {"free": 21}, Unit((), ()), free=21)
+        self.refuse(BadFree, {"free": -1}, read_unit("word g;"), "dead", free=-1)
         for free in range(21):
             compiled(unit, free=free)
 

@@ -176,6 +176,15 @@ class EmittedTest(unittest.TestCase):
                     walker = self.one((("word", place, word), ("fork", place, yes, no)), *ends)
                     self.assertEqual(walker.end, ("end", 100 + (yes if word else no)))
 
+    def test_forks_with_a_block_between(self):
+        # The block that follows the second fork is reached from the first one only.
+        for yes, no in ((3, 4), (4, 3), (5, 3), (3, 3), (2, 4), (4, 2)):
+            for place in (9, 33):
+                for word in (0, 1, -1):
+                    ends = [(("word", 9, 100 * k), ("back", 9)) for k in (2, 3, 4, 5)]
+                    walker = self.one((("word", 8, 1), ("fork", 8, 1, 2)), (("word", place, word), ("fork", place, yes, no)), *ends)
+                    self.assertEqual(walker.end, ("end", 100 * (yes if word else no)))
+
     def test_marks_of_blocks_that_are_not_reached(self):
         unreached = (("tell", 8, (("main", 9),)), ("nonzero", 8, AT), ("call", 8, "main", (), AT), ("jump", 1))
         piece = check_piece(self, main((("tell", 8, AT), ("back", 8)), unreached, (("inside", 8, 3, AT), ("jump", 0))))

@@ -23,10 +23,10 @@ COUNTING = """word g; word f(word n) { while (n) { n = n - 1; tell n; } return g
 word main() { word i; while (i < 3) { i = i + 1; g = g + f(i); f(2); } return g / (i - 3); }"""
 
 
-def image_of(*rows, data=(), frame=64, depth=2, base=4096, marks=(), raw=()):
-    """An image with just these rows as the function main; `raw` are further instruction words."""
+def image_of(*rows, data=(), frame=64, depth=2, base=4096, marks=(), raw=(), more=()):
+    """An image with just these rows as the function main; `raw` are further instruction words, `more` further functions."""
     words = [encode(row) for row in rows] + list(raw)
-    return link(Object(words, (("main", 0, 0, frame),), data, (), (), marks), depth=depth, base=base)
+    return link(Object(words, (("main", 0, 0, frame), *more), data, (), (), marks), depth=depth, base=base)
 
 
 def listed(*lines, **more):
@@ -324,6 +324,9 @@ class DrivingTest(Compared):
         self.assertEqual((run_image(image).rounds, run_image(image).steps), (1000, 1004))
         image = image_of(("beq", 0, 0, 0))
         self.assertEqual(run_image(image).steps, 100000)
+        machine = Machine(image)
+        machine.go()
+        self.assertEqual(machine.run().steps, 100000)
         machine = Machine(image_of(("jal", 0, 0)))
         machine.go()
         self.assertEqual(machine.run().rounds, 1000)
@@ -397,6 +400,17 @@ class StoryTest(Compared):
             self.assertEqual(machine.run().shown(), (((0, ()),), ("trap", "depth", ()), 0))
         self.assertEqual(self.compare(listed(*[line for line in lines if line != "{}"])).run().told, ((0, ()),))
 
+    def test_marks_at_the_bounds_of_functions(self):
+        """Each function has a frame of its own, from its first word to its last one."""
+        for frames, story in (((8, 12), (("f", 3),)), ((12, 8), (("f", 3),)), ((8, 8), (("f", 3),))):
+            for at in (0, 1):
+                # The jump goes to the first word of f, without a call; the cell below the top has the return address of main.
+                rows = [("addi", 2, 2, -frames[1]), ("sw", 1, 2, frames[1] - 4), ("jal", 0, 4 + 4 * at), ("ebreak",), ("ebreak",)]
+                image = image_of(*rows, frame=frames[0], more=(("f", 3, 0, frames[1]),), marks=((3, "index", (("f", 3),)), (4, "index", (("f", 3),))))
+                self.assertEqual(self.compare(image).story(), story)
+                image = image_of(*rows, frame=frames[1], more=(("f", 4, 0, frames[0]),), marks=((3, "index", (("f", 3),)), (4, "index", (("f", 3),))))
+                self.assertEqual(self.compare(image).story() == story, at == 0 or frames[0] == frames[1])
+
     def test_many_calls(self):
         """A function that calls itself without a check, and stops when a number is 0."""
         for many in (1, 2, 999, 1000, 1001, 1002):
@@ -465,7 +479,8 @@ class DrawnTest(Compared):
             rows.append(row)
             if chance.random() < 0.4:
                 marks.append((at, chance.choice(("tell", "call", "divide", "index", "depth")), (("main", at),)))
-        return image_of(*rows, data=(("g", 0, 4116), ("h", 0, 4112), ("t", 5, 0)), frame=chance.choice((4, 8, 16)), marks=tuple(marks))
+        more = (("f", chance.randrange(1, many), 0, chance.choice((4, 8, 12))),) if chance.random() < 0.6 else ()
+        return image_of(*rows, data=(("g", 0, 4116), ("h", 0, 4112), ("t", 5, 0)), frame=chance.choice((4, 8, 16)), marks=tuple(marks), more=more)
 
 
 if __name__ == "__main__":

@@ -90,6 +90,14 @@ class ShopTest(unittest.TestCase):
         self.assertEqual(caught.exception.name, "f")
 
     def test_passes_and_numbers(self):
+        # The usual number of free registers is 8: here the object hangs on it.
+        names = [f"w{k}" for k in range(15)]
+        text = "word main() { " + " ".join([f"word {name};" for name in names]) + " return " + " - ".join(names) + "; }"
+        shop = Shop()
+        shop.put("main", text)
+        self.assertEqual(shop.made("main").parts(), compiled(read_unit(text), free=8).parts())
+        self.assertNotEqual(shop.made("main").parts(), compiled(read_unit(text), free=7).parts())
+        self.assertEqual((shop.image().depth, shop.image().base), (32, 4096))
         for passes, more in (((), {}), (("known",), {"free": 0}), (PASSES, {"free": 20, "depth": 3, "base": 0}), (("laid",), {"depth": 1000, "base": 1048576})):
             shop = self.filled(*passes, **more)
             free = {"free": more.get("free", 8)}

@@ -47,8 +47,6 @@ def read_open_row(text):
     The last entry of the row is 0.
     """
     name, texts = parted_text(text)
-    if not texts:
-        return None
     row = row_of_texts(name, [*texts[:-1], "0"])
     return (row, texts[-1]) if row is not None and open_row_text(row, texts[-1]) == text else None
 

@@ -56,13 +56,11 @@ def laid_within_bounds(flow, flows, sites):
     for done, site in enumerate(sites):
         number, position = calls_of(flow)[site]
         call = flow.blocks[number][position]
-        if len(call[4]) + longest_chain(can[call[2]]) > MOST_PLACES:
+        # Each call that is laid makes the flow greater, so nothing is laid in one that is too great already.
+        if not is_within_bounds(laid_flow) or len(call[4]) + longest_chain(can[call[2]]) > MOST_PLACES:
             return None
         laid_flow = laid_once(laid_flow, can, site - done)
-        # Each call that is laid makes the flow greater, so nothing is laid in one that is too great already.
-        if not is_within_bounds(laid_flow):
-            return None
-    return laid_flow
+    return laid_flow if is_within_bounds(laid_flow) else None
 
 
 def is_within_bounds(flow):

@@ -1,9 +1,8 @@
 """The shop, which keeps units and compiles them."""
 
-from sameruns.basics.errors import BadName, NoMain, NoUnit
+from sameruns.basics.errors import BadName, NoUnit
 from sameruns.basics.runs import check_depth
 from sameruns.homes.cells import free_registers
-from sameruns.lang.checking import check_unit
 from sameruns.lang.tokens import is_name
 from sameruns.lang.unitreading import read_unit
 from sameruns.objects.linking import check_base, link
@@ -55,7 +54,7 @@ class Shop:
         if not is_name(name):
             raise BadName(name)
         unit = read_unit(text)
-        check_unit(unit)
+        # A tree that is known was checked when it was compiled.
         is_known = name in units and units[name][1] == unit.parts()
         if is_known:
             made = units[name][2]
@@ -99,9 +98,7 @@ class Shop:
         return self.linked(units)
 
     def linked(self, units):
-        """Return the image of these units."""
-        if not units:
-            raise NoMain()
+        """Return the image of these units; without units there is no function main."""
         objects = [made for _, _, made in units.values()]
         depth, base = self.depth, self.base
         return link(*objects, depth=depth, base=base)
